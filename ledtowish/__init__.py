@@ -1,0 +1,1 @@
+"""Ledtowish: told numbers led to a wished one."""
