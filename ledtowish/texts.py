@@ -1,7 +1,7 @@
 """Ways written as texts and read from them."""
 
 from ledtowish.errors import NoText
-from ledtowish.ways import steps_of
+from ledtowish.ways import come_of, steps_of
 
 SIGNS = {"plus": " + ", "less": " - ", "times": " * ", "share": " / "}
 FIGURES = "0123456789"
@@ -34,16 +34,12 @@ def number_of(figures):
 
 def way_shown(way):
     """A way's text."""
-    shown = []
-    for step in steps_of(way):
-        if isinstance(step, str):
-            second = shown.pop()
-            first = shown.pop()
-            shown.append("(" + first + SIGNS[step] + second + ")")
-        else:
-            shown.append(figures_of(step))
-    whole = shown[0]
+    whole = come_of(steps_of(way), figures_of, in_brackets)
     return whole[1:-1] if isinstance(way, tuple) else whole
+
+
+def in_brackets(word, first, second):
+    return "(" + first + SIGNS[word] + second + ")"
 
 
 def read_way(text):

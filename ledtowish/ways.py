@@ -47,18 +47,46 @@ def steps_of(way):
     return steps[::-1]
 
 
+def come_of(steps, of_number, of_word):
+    """What steps come to: a number to of_number(number), a word to
+    of_word(word, first, second), of what its two ways came to."""
+    come = []
+    for step in steps:
+        if isinstance(step, str):
+            second = come.pop()
+            first = come.pop()
+            come.append(of_word(step, first, second))
+        else:
+            come.append(of_number(step))
+    return come[0]
+
+
+def number_itself(number):
+    return number
+
+
+def worth_by(word, first, second):
+    """The worth of two worths and a word, or NoWay."""
+    deed = DEEDS[word]
+    return deed(first, second)
+
+
 def worth_of(way):
     """The worth of a way, or NoWay."""
-    worths = []
-    for step in steps_of(way):
-        if isinstance(step, str):
-            second = worths.pop()
-            first = worths.pop()
-            deed = DEEDS[step]
-            worths.append(deed(first, second))
-        else:
-            worths.append(step)
-    return worths[0]
+    return come_of(steps_of(way), number_itself, worth_by)
+
+
+def deeds_between(firsts, seconds):
+    """All (word, first, second, worth) by words that one worth of each row lets."""
+    deeds = []
+    for first in firsts:
+        for second in seconds:
+            for word in DEEDS:
+                try:
+                    deeds.append((word, first, second, worth_by(word, first, second)))
+                except NoWay:
+                    continue
+    return deeds
 
 
 def deeds_of(way):
