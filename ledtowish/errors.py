@@ -14,7 +14,7 @@ class NoAsk(WishError):
 
 
 class NoWay(WishError):
-    """A way without a worth; word is the way's word that has none."""
+    """A way that has no worth, or that is not there; word is the word it fails at."""
 
     def __init__(self, word):
         self.word = word

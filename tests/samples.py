@@ -161,3 +161,10 @@ def plain_all(numbers):
     for row in rows_within(numbers):
         told.update(plain_let(row))
     return told
+
+
+def many_in(form):
+    """How many numbers stand in a form."""
+    if isinstance(form, int):
+        return 1
+    return sum(many_in(part) for part in form[1] + form[2])
